@@ -12,6 +12,7 @@ import (
 	"lockgate/entry"
 	"lockgate/geom"
 	"lockgate/mkfs"
+	"lockgate/rules"
 	"lockgate/super"
 )
 
@@ -442,6 +443,9 @@ func TestRepairOfAnything(t *testing.T) {
 		again, unlike, ok := Repair(fixed)
 		if !ok || len(unlike) != 0 || !bytes.Equal(again, fixed) {
 			t.Fatalf("round %d, a second time: %v, %v", round, unlike, ok)
+		}
+		if rule := rules.Check(fixed); rule != 0 {
+			t.Fatalf("round %d: rule %d is broken", round, rule)
 		}
 	}
 }
