@@ -105,6 +105,40 @@ func (p *paper) becomes(want *paper) {
 	if !ok || len(unlike) != 0 || !bytes.Equal(again, want.image) {
 		p.t.Errorf("a second time: %v, %v", ok, unlike)
 	}
+	if plainly, ok := plainRepair(p.t, given); !ok || !bytes.Equal(plainly, want.image) {
+		p.t.Error("the plain reading tells otherwise")
+	}
+}
+
+// asRead holds Repair of the image against the plain reading of the chapter, and tells how many blocks are unlike (-1: it is not usable).
+func (p *paper) asRead() int {
+	p.t.Helper()
+	given := bytes.Clone(p.image)
+	fixed, unlike, ok := Repair(p.image)
+	want, usable := plainRepair(p.t, given)
+	if ok != usable || !bytes.Equal(fixed, want) {
+		p.t.Fatalf("%v, must be %v: other than the plain reading has it", ok, usable)
+	}
+	if !bytes.Equal(given, p.image) {
+		p.t.Fatal("the argument was changed")
+	}
+	if !ok {
+		if fixed != nil || unlike != nil {
+			p.t.Fatalf("beside false stand %d bytes, %v", len(fixed), unlike)
+		}
+		return -1
+	}
+	if !slices.Equal(unlike, unlikeBlocks(given, want)) {
+		p.t.Fatalf("unlike: %v", unlike)
+	}
+	again, twice, ok := Repair(fixed)
+	if !ok || len(twice) != 0 || !bytes.Equal(again, fixed) {
+		p.t.Fatalf("a second time: %v, %v", twice, ok)
+	}
+	if rule := rules.Check(fixed); rule != 0 {
+		p.t.Fatalf("rule %d is broken", rule)
+	}
+	return len(unlike)
 }
 
 func dir(links, size int, blocks ...int) api.Inode {
@@ -431,52 +465,115 @@ func TestMaxLinks(t *testing.T) {
 // TestRepairOfAnything: whatever lies there, it ends, and of its own answer it changes nothing.
 func TestRepairOfAnything(t *testing.T) {
 	draw := rand.New(rand.NewSource(1))
-	for round := range 3000 {
-		g := api.Geometry{Groups: 1 + round%2, Inodes: 1 + round%3, Data: 8 + draw.Intn(40)}
-		p := empty(t, g)
-		wreck(p, draw)
-		given := bytes.Clone(p.image)
-		fixed, unlike, ok := Repair(p.image)
-		if !ok || !bytes.Equal(given, p.image) || !slices.Equal(unlike, unlikeBlocks(given, fixed)) {
-			t.Fatalf("round %d: %v, %v", round, unlike, ok)
+	for round := range 4000 {
+		p := empty(t, api.Geometry{Groups: 1 + round%2, Inodes: 1 + round%3, Data: 8 + draw.Intn(60)})
+		wreck(p, draw, draw.Intn(80))
+		p.asRead()
+	}
+}
+
+// TestRepairOfNearlyAnything: file systems of which little is wrong.
+func TestRepairOfNearlyAnything(t *testing.T) {
+	draw, told := rand.New(rand.NewSource(2)), map[int]int{}
+	for round := range 1500 {
+		p := empty(t, api.Geometry{Groups: 1 + round%2, Inodes: 1, Data: 20 + draw.Intn(60)})
+		for range 3 { // a second file system is made of what was lost of the first one, and so on
+			wreck(p, draw, 30)
+			p.image, _, _ = Repair(p.image)
 		}
-		again, unlike, ok := Repair(fixed)
-		if !ok || len(unlike) != 0 || !bytes.Equal(again, fixed) {
-			t.Fatalf("round %d, a second time: %v, %v", round, unlike, ok)
+		if n := p.asRead(); n != 0 {
+			t.Fatalf("%d blocks are unlike in what was repaired", n)
 		}
-		if rule := rules.Check(fixed); rule != 0 {
-			t.Fatalf("round %d: rule %d is broken", round, rule)
+		for range draw.Intn(4) {
+			p.image[1024+draw.Intn(len(p.image)-1024)] ^= 1 << draw.Intn(8)
+		}
+		told[p.asRead()]++
+	}
+	for n := range 3 {
+		if told[n] == 0 {
+			t.Errorf("no image of which %d blocks are unlike was drawn: %v", n, told)
 		}
 	}
 }
 
-// wreck writes inodes, pointers and entries that are half right all over an image.
-func wreck(p *paper, draw *rand.Rand) {
-	total := geom.Total(p.g)
-	block := func() int { return draw.Intn(total + 2) }
-	ino := func() int { return draw.Intn(geom.Inodes(p.g) + 3) }
-	for range draw.Intn(60) {
-		at, _ := geom.Data(p.g, draw.Intn(geom.Blocks(p.g)))
-		switch draw.Intn(6) {
-		case 0:
-			p.table(at, block(), block(), block(), block())
-		case 1, 2:
-			var l []api.Entry
-			for range draw.Intn(33) {
-				l = append(l, to(1+ino(), strconv.Itoa(draw.Intn(40))))
+// TestEachTurnedByte: of a file system in which a bit is turned anywhere in blocks of each kind.
+func TestEachTurnedByte(t *testing.T) {
+	p, _ := hurt(t)
+	p.image, _, _ = Repair(p.image)
+	for _, block := range []int{0, 1, 2, 4, 10, 25, 30} {
+		for at := range 1024 {
+			p.image[block*1024+at] ^= 1
+			p.asRead()
+			p.image[block*1024+at] ^= 1
+		}
+	}
+}
+
+// TestLongOnesThatAreHurt: some pointers of an inode with tables of all levels lead elsewhere.
+func TestLongOnesThatAreHurt(t *testing.T) {
+	draw := rand.New(rand.NewSource(3))
+	for round := range 400 {
+		p := empty(t, api.Geometry{Groups: 1, Inodes: 1, Data: 600})
+		i, _ := long(p, 2, 521)
+		p.entries(3, names(1, 1, to(2, "long"), to(3, "other"))...)
+		p.inode(3, file(1, 3000, 6+draw.Intn(530), 6+draw.Intn(530), 6+draw.Intn(530)))
+		sizes := []int{i.Size, i.Size - 1, i.Size + 5000, 520 * 1024, 264*1024 + 1, 264 * 1024, 263 * 1024, 8*1024 + 1023, 8 * 1024, api.MaxSize + 1}
+		i.Kind, i.Size = api.File+round%2, sizes[draw.Intn(len(sizes))]
+		p.inode(2, i)
+		for range draw.Intn(4) {
+			table := 6 + draw.Intn(4)
+			at := draw.Intn(256)
+			if table == 7 || table == 9 {
+				at = draw.Intn(3) // where it has any
 			}
-			p.entries(at, l...)
-		case 3, 4:
-			i := api.Inode{Kind: 1 + draw.Intn(2), Links: draw.Intn(4), Size: draw.Intn(300 * 1024), Single: block(), Double: block()}
+			p.image[table*1024+at*4], p.image[table*1024+at*4+1] = byte(draw.Intn(256)), byte(draw.Intn(3))
+		}
+		p.asRead()
+	}
+}
+
+// wreck writes inodes, pointers and entries that are half right all over an image, that many times, and mostly a root behind that, so that some of them are reached.
+func wreck(p *paper, draw *rand.Rand, times int) {
+	block := func() int { return draw.Intn(geom.Total(p.g) + 2) }
+	ino := func() int { return 1 + draw.Intn(min(geom.Inodes(p.g)+3, 12)) }
+	sizes := []int{0, 1, 1023, 1024, 1025, 2048, 8 * 1024, 9 * 1024, 264 * 1024, 265 * 1024, 520*1024 + 1, api.MaxSize, api.MaxSize + 1, 1<<32 - 1}
+	drawNames := func(at int) {
+		l := make([]api.Entry, 32)
+		for range draw.Intn(33) {
+			l[draw.Intn(32)] = to(ino(), strconv.Itoa(draw.Intn(40)))
+		}
+		p.entries(at, l...)
+	}
+	data := func() int {
+		at, _ := geom.Data(p.g, draw.Intn(geom.Blocks(p.g)))
+		return at
+	}
+	for range times {
+		switch draw.Intn(7) {
+		case 0, 1:
+			l := make([]int, 256)
+			for range draw.Intn(12) {
+				l[draw.Intn(256)%(1+draw.Intn(256))] = block()
+			}
+			p.table(data(), l...)
+		case 2, 3:
+			drawNames(data())
+		case 4, 5:
+			i := api.Inode{Kind: 1 + draw.Intn(2), Links: draw.Intn(4), Size: sizes[draw.Intn(len(sizes))], Single: block(), Double: block()}
 			for k := range draw.Intn(9) {
 				i.Direct[k] = block()
 			}
-			p.inode(1+draw.Intn(geom.Inodes(p.g)), i)
+			p.inode(1+draw.Intn(min(geom.Inodes(p.g), 12)), i)
 		default:
-			for range 20 {
+			for range 1 + draw.Intn(20) {
 				p.image[1024+draw.Intn(len(p.image)-1024)] = byte(draw.Intn(256))
 			}
 		}
+	}
+	if draw.Intn(5) > 0 {
+		root := dir(draw.Intn(4), sizes[3+draw.Intn(len(sizes)-3)], data(), block())
+		p.inode(1, root)
+		drawNames(root.Direct[0])
 	}
 }
 
@@ -490,4 +587,8 @@ func TestRepairAnswersNewMemory(t *testing.T) {
 		t.Error("it shares memory with the argument")
 	}
 	p.becomes(empty(t, small))
+	room := append(given, 1, 2, 3) // the spare room of what is handed in
+	if fixed, _, _ := Repair(room[:len(p.image)]); len(fixed) != len(p.image) || !bytes.Equal(room[len(p.image):], []byte{1, 2, 3}) {
+		t.Error("the spare room of the argument was changed")
+	}
 }

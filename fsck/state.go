@@ -15,6 +15,7 @@ import (
 
 var (
 	errUnusable = errors.New("fsck: the image is not usable")
+	errPower    = errors.New("fsck: the disk has no power")
 	errPack     = errors.New("fsck: what was kept has no bytes")
 )
 

@@ -82,9 +82,11 @@ func (s *state) trim(n *node) {
 	for _, c := range n.claims {
 		if c.first < whole {
 			stay = append(stay, c)
-		} else {
-			s.mark(c.block, 0)
+			continue
 		}
+		s.mark(c.block, 0)
+		// Of a block of pointers nothing will be written: kept, those of many directories would be more than the disk has bytes.
+		delete(n.tables, c.block)
 	}
 	n.claims = stay
 	for p := range n.pointers(s.image) {

@@ -128,6 +128,15 @@ func (p *paper) has(want int) {
 	}
 }
 
+// asRepaired is what Faults must tell: how many blocks the repair writes.
+func (p *paper) asRepaired() int {
+	_, unlike, ok := fsck.Repair(p.image)
+	if !ok {
+		return -1
+	}
+	return len(unlike)
+}
+
 func dir(links, size int, blocks ...int) api.Inode {
 	i := api.Inode{Kind: api.Dir, Links: links, Size: size}
 	copy(i.Direct[:], blocks)

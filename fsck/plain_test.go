@@ -1,4 +1,4 @@
-package scan
+package fsck
 
 import (
 	"bytes"
@@ -12,7 +12,7 @@ import (
 	"lockgate/super"
 )
 
-// plain is a plain reading of P1802, in another shape than package fsck: what an inode keeps stands in a map by the place of each pointer.
+// plain is a plain reading of P1802, in another shape than the program: what an inode keeps stands in a map by the place of each pointer.
 type plain struct {
 	t     testing.TB
 	g     api.Geometry
@@ -35,22 +35,15 @@ type kept struct {
 	entries  []api.Entry
 }
 
-// plainFaults is what Faults must answer.
-func plainFaults(t testing.TB, image []byte) int {
+// plainRepair is what Repair must make of an image; false: it is not usable.
+func plainRepair(t testing.TB, image []byte) ([]byte, bool) {
 	g, err := super.Read(image[:min(len(image), 1024)])
 	if err != api.OK || len(image) != 1024*geom.Total(g) {
-		return -1
+		return nil, false
 	}
 	p := &plain{t: t, g: g, image: image, owner: map[int]int{}, taken: map[int]*kept{}}
 	p.takeAll()
-	want := p.written()
-	n := 0
-	for at := 0; at < len(image); at += 1024 {
-		if string(want[at:at+1024]) != string(image[at:at+1024]) {
-			n++
-		}
-	}
-	return n
+	return p.written(), true
 }
 
 func (p *plain) block(n int) []byte {
