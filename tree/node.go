@@ -33,6 +33,31 @@ func newDir() *node {
 	return &node{kind: api.Dir, links: 2, size: api.Block, slots: make([]slot, api.PerDir-dots), places: map[string]int{}}
 }
 
+// nodeOf is a node as it was told, whose slots are all free.
+func nodeOf(told api.Node) *node {
+	if told.Kind == api.Dir {
+		n := newDir()
+		n.links, n.size, n.slots = told.Links, told.Size, make([]slot, len(told.Slots))
+		return n
+	}
+	n := newFile()
+	n.links, n.size = told.Links, told.Size
+	for _, p := range told.Blocks {
+		n.blocks[p.At] = bytes.Clone(p.Data)
+	}
+	return n
+}
+
+// name gives the names of slots as they were told to a directory whose slots are all free.
+func (n *node) name(told []api.Entry, nodes map[int]*node) {
+	for at, e := range told {
+		if e.Ino != 0 {
+			n.slots[at] = slot{e.Name, nodes[e.Ino]}
+			n.places[e.Name] = at
+		}
+	}
+}
+
 // look finds what a name of a directory names.
 func (n *node) look(name string) (*node, bool) {
 	at, ok := n.places[name]

@@ -860,3 +860,76 @@ func TestTheSameCallsAnswerTheSame(t *testing.T) {
 		}
 	}
 }
+
+// Of, beside the chapter's calls.
+
+// TestOfGoesOn: the tree that was made of another's nodes answers as that one does from there on.
+func TestOfGoesOn(t *testing.T) {
+	g := api.Geometry{Groups: 1, Inodes: 1, Data: 30}
+	for seed := range 20 {
+		x := New(g)
+		for _, c := range drawn(uint32(seed), 100) {
+			x.Do(c)
+		}
+		_, taken := x.Used()
+		y := Of(g, otherwise(x.Nodes()), taken)
+		for _, c := range drawn(uint32(seed+1000), 200) {
+			if want, got := calls.Show(c.Kind, x.Do(c)), calls.Show(c.Kind, y.Do(c)); got != want {
+				t.Fatalf("seed %d: %v: %s, not %s", seed, c, got, want)
+			}
+		}
+		wellMade(t, y)
+		if !walk.Same(y.Nodes(), x.Nodes()) {
+			t.Errorf("seed %d: the trees are not one", seed)
+		}
+	}
+}
+
+// otherwise is the same tree with other numbers, in another order.
+func otherwise(l []api.Node) []api.Node {
+	number := func(n int) int {
+		if n > 1 {
+			return 1000 - 7*n
+		}
+		return n
+	}
+	for k := range l {
+		l[k].Ino = number(l[k].Ino)
+		for at := range l[k].Slots {
+			l[k].Slots[at].Ino = number(l[k].Slots[at].Ino)
+		}
+	}
+	slices.Reverse(l)
+	return l
+}
+
+// TestOfRoom: what is taken counts, whatever the nodes need.
+func TestOfRoom(t *testing.T) {
+	g := api.Geometry{Groups: 1, Inodes: 1, Data: 10}
+	for taken := 2; taken <= 10; taken++ {
+		x := New(g)
+		play(t, x, "mkdir /d")
+		y := Of(g, x.Nodes(), taken)
+		if inodes, blocks := y.Used(); inodes != 2 || blocks != taken {
+			t.Errorf("%d, %d used", inodes, blocks)
+		}
+		for range 10 - taken {
+			play(t, y, fmt.Sprint("mkdir /", len(y.Nodes())))
+		}
+		refused(t, y, "mkdir /x", api.ErrSpace)
+		play(t, y, "create /x", "rmdir /d", "mkdir /d")
+	}
+}
+
+func TestOfKeepsNothing(t *testing.T) {
+	x := New(wide())
+	play(t, x, "mkdir /d", "create /d/f", "write /d/f 0 4142")
+	l := x.Nodes()
+	y := Of(wide(), l, 5)
+	clear(l[2].Blocks[0].Data)
+	clear(l[0].Slots)
+	expect(t, y, "read /d/f 0 9", "data 4142", "write /d/f 0 43", "wrote 1", "list /", "names d")
+	if l[2].Blocks[0].Data[0] != 0 {
+		t.Error("what was handed in is changed")
+	}
+}
