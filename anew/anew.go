@@ -1,4 +1,4 @@
-// Package anew numbers the nodes of a tree anew. It stands beside the layers: those that read and go over trees share it.
+// Package anew looks the nodes of a tree up, and numbers them anew. It stands beside the layers: those that read and go over trees share it.
 package anew
 
 import (
@@ -7,12 +7,18 @@ import (
 	"lockgate/api"
 )
 
-// Number numbers the nodes that are reached from the root in the order in which they are reached, and tells them so: the root is the first one, then come those that its slots name, then those that theirs do. A slot that names none is free then. It writes into the slots of l.
-func Number(l []api.Node) []api.Node {
-	places := map[int]int{} // in l, by inode: of several of one inode the first
+// Places are the places of nodes in a list, by their inodes: of several of one inode the first.
+func Places(l []api.Node) map[int]int {
+	places := make(map[int]int, len(l))
 	for k, n := range slices.Backward(l) {
 		places[n.Ino] = k
 	}
+	return places
+}
+
+// Number numbers the nodes that are reached from the root in the order in which they are reached, and tells them so: the root is the first one, then come those that its slots name, then those that theirs do. A slot that names none is free then. It writes into the slots of l.
+func Number(l []api.Node) []api.Node {
+	places := Places(l)
 	root, ok := places[api.Root]
 	if !ok {
 		return nil
