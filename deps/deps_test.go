@@ -96,6 +96,64 @@ func TestNextWaitsForAll(t *testing.T) {
 	mustTell(t, "Blocked(3)", g.Blocked(3))
 }
 
+func mustJoin(t *testing.T, g *Graph, want bool, id int, on ...int) {
+	t.Helper()
+	if g.Join(id, on) != want {
+		t.Errorf("Join(%d, %v) is not %v", id, on, want)
+	}
+}
+
+// Join beside the chapter's calls: a change hangs on more, as if it had been added so, also on what was added behind it.
+func TestJoin(t *testing.T) {
+	g := New()
+	mustAdd(t, g, 0, 7)
+	mustAdd(t, g, 1, 8)
+	mustAdd(t, g, 2, 9)
+	mustJoin(t, g, true, 0)
+	mustTell(t, "Next(7)", g.Next(7), 0)
+	mustJoin(t, g, true, 0, 1, 2, 1)
+	mustTell(t, "Blocked(7)", g.Blocked(7), 0)
+	mustTell(t, "Next(7)", g.Next(7))
+	mustTell(t, "Ready", g.Ready(), 8, 9)
+	mustTell(t, "Need", g.Need([]int{0}), 0, 1, 2)
+	c := g.Copy()
+	mustTell(t, "Written(8)", g.Written(8), 1)
+	mustJoin(t, g, true, 0, 1)
+	mustTell(t, "Blocked(7)", g.Blocked(7), 0)
+	mustTell(t, "Written(9)", g.Written(9), 2)
+	mustTell(t, "Written(7)", g.Written(7), 0)
+	mustTell(t, "Blocked(7) of the copy", c.Blocked(7), 0)
+	if g.Left() != 0 || c.Left() != 3 {
+		t.Errorf("Left is %d, %d", g.Left(), c.Left())
+	}
+}
+
+// Join refuses what might make a ring, and what is no change or done; nothing changes then.
+func TestJoinRefuses(t *testing.T) {
+	g := New()
+	mustAdd(t, g, 0, 7)
+	mustAdd(t, g, 1, 8, 0)
+	mustAdd(t, g, 2, 9)
+	mustAdd(t, g, 3, 6)
+	g.Written(6)
+	mustJoin(t, g, false, 0, 1)
+	mustJoin(t, g, false, 0, 2)
+	mustJoin(t, g, false, 0)
+	mustJoin(t, g, false, 1, 1)
+	mustJoin(t, g, false, 1, 2, 4)
+	mustJoin(t, g, false, 1, -1)
+	mustJoin(t, g, false, 3, 2)
+	mustJoin(t, g, false, 4, 2)
+	mustJoin(t, g, false, -1)
+	mustJoin(t, g, false, math.MinInt, 0)
+	mustTell(t, "Need", g.Need([]int{1}), 0, 1)
+	mustTell(t, "Ready", g.Ready(), 7, 9)
+	on := []int{2}
+	mustJoin(t, g, true, 1, on...)
+	on[0] = 0
+	mustTell(t, "Need", g.Need([]int{1}), 0, 1, 2)
+}
+
 // P1302: a change waits for those of its own buffer, too: a write brings one of a chain.
 func TestWrittenOfOneBuffer(t *testing.T) {
 	g := New()

@@ -7,6 +7,7 @@ import (
 	"testing"
 
 	"lockgate/api"
+	"lockgate/bits"
 )
 
 // fine are geometries that may be, the least and the greatest among them, with rows of data bits that end within a byte and at its end.
@@ -356,6 +357,25 @@ func TestAnswersHangOnArgumentsAlone(t *testing.T) {
 		inodes, data = Bits(g, head)
 		if !bytes.Equal(pack, wantPack) || !bytes.Equal(head, wantHead) || !bytes.Equal(inodes, wantInodes) || !bytes.Equal(data, wantData) {
 			t.Errorf("%+v: answered otherwise the second time", g)
+		}
+	}
+}
+
+// InodeBit and DataBit beside the chapter's calls: where Head puts each bit.
+func TestPlacesOfBits(t *testing.T) {
+	g := api.Geometry{Groups: 1, Inodes: api.MaxIB, Data: api.MaxData}
+	inodes, data := make([]byte, 8), make([]byte, 125)
+	empty, _ := Head(g, 0, inodes, data)
+	for n := range 64 {
+		got, _ := Head(g, 0, bits.With(inodes, n, true), data)
+		if !bytes.Equal(got, bits.With(empty, InodeBit(n), true)) {
+			t.Errorf("inode %d", n)
+		}
+	}
+	for n := range 1000 {
+		got, _ := Head(g, 0, inodes, bits.With(data, n, true))
+		if !bytes.Equal(got, bits.With(empty, DataBit(n), true)) {
+			t.Errorf("data block %d", n)
 		}
 	}
 }
