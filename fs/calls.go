@@ -1,13 +1,15 @@
 package fs
 
 import (
+	"slices"
+
 	"lockgate/api"
 	"lockgate/entry"
 )
 
-// changes are what is done to the image, by the Kind of a call. The tree has done the call already: there is nothing wrong with it, and there is room.
+// changes are what calls do to the image, by their Kinds. The tree has done the call already: there is nothing wrong with it, and there is room.
 //
-// In each of them the order matters: what a name leads to is there ahead of the name; links are counted up ahead of a name, and down behind it; what is renamed has its new name ahead of losing the old one.
+// Each change hangs on those ahead of which it must not be on the disk: what a name leads to is there ahead of the name; links are counted up ahead of a name, and down behind it; what is renamed has its new name ahead of losing the old one; what is given back is not used anew while anything leads to it.
 func changes() map[int]func(*FS, api.Call) {
 	return map[int]func(*FS, api.Call){
 		api.CCreate: (*FS).create,
@@ -23,79 +25,47 @@ func changes() map[int]func(*FS, api.Call) {
 
 func (f *FS) create(c api.Call) {
 	to := f.place(c.Path)
-	ino := f.freshInode(to.dir)
-	f.turn(ino, func(i *api.Inode) { i.Kind, i.Links = api.File, 1 })
-	f.enter(to, ino)
+	ino, marked := f.freshInode(to.dir)
+	is := f.turn(ino, func(i *api.Inode) { i.Kind, i.Links = api.File, 1 }, nil)
+	f.give(to, ino, slices.Concat(marked, is))
 }
 
 func (f *FS) mkdir(c api.Call) {
 	to := f.place(c.Path)
-	ino := f.freshInode(to.dir)
+	ino, marked := f.freshInode(to.dir)
 	b, _ := entry.PackBlock([]api.Entry{{Ino: ino, Name: "."}, {Ino: to.dir, Name: ".."}})
-	block := f.freshBlock(ino, b)
-	f.turn(ino, func(i *api.Inode) { i.Kind, i.Links, i.Size, i.Direct[0] = api.Dir, 2, api.Block, block })
-	f.links(to.dir, 1)
-	f.enter(to, ino)
+	block, there := f.freshBlock(ino, b, nil)
+	is := f.turn(ino, func(i *api.Inode) { i.Kind, i.Links, i.Size, i.Direct[0] = api.Dir, 2, api.Block, block }, there)
+	f.give(to, ino, slices.Concat(marked, is, f.links(to.dir, 1, nil)))
 }
 
 func (f *FS) link(c api.Call) {
 	ino := f.node(c.Path)
-	f.links(ino, 1)
-	f.enter(f.place(c.To), ino)
+	f.give(f.place(c.To), ino, f.links(ino, 1, nil))
 }
 
 func (f *FS) unlink(c api.Call) {
 	from := f.place(c.Path)
 	ino := f.names[from].ino
-	f.remove(from)
-	f.loseName(ino)
+	f.loseName(ino, f.remove(from, nil))
 }
 
-// loseName sees to an inode of which a name is gone: a file goes with its last one, a directory with its only one.
-func (f *FS) loseName(ino int) {
-	if i := f.inode(ino); i.Kind == api.File && i.Links > 1 {
-		f.links(ino, -1)
+// loseName sees to a file of which a name goes with these changes: it goes with its last one.
+func (f *FS) loseName(ino int, gone []int) {
+	if f.inode(ino).Links > 1 {
+		f.links(ino, -1, gone)
 		return
 	}
-	f.freeInode(ino)
+	f.freeInode(ino, gone)
 }
 
+// rmdir takes a directory away. All that was done to it is on the disk first: behind that what is still in it can't be reached by it, nor can it be reached by ".." of what was moved out of it.
 func (f *FS) rmdir(c api.Call) {
 	from := f.place(c.Path)
 	ino := f.names[from].ino
-	f.remove(from)
-	f.links(from.dir, -1)
-	f.loseName(ino)
-}
-
-func (f *FS) rename(c api.Call) {
-	from, to := f.place(c.Path), f.place(c.To)
-	ino, gone := f.names[from].ino, f.names[to].ino
-	if ino == gone {
-		return
-	}
-	isDir := f.inode(ino).Kind == api.Dir
-	moves := isDir && from.dir != to.dir
-	f.links(ino, 1) // while it has both names
-	if gone != 0 {
-		f.replace(to, ino)
-	} else {
-		if moves {
-			f.links(to.dir, 1)
-		}
-		f.enter(to, ino)
-	}
-	if moves {
-		f.putEntry(ino, 1, api.Entry{Ino: to.dir, Name: ".."})
-	}
-	f.remove(from)
-	f.links(ino, -1)
-	if moves || isDir && gone != 0 {
-		f.links(from.dir, -1)
-	}
-	if gone != 0 {
-		f.loseName(gone)
-	}
+	gone := f.remove(from, f.of(ino))
+	f.links(from.dir, -1, gone)
+	f.freeInode(ino, gone)
 }
 
 func (f *FS) write(c api.Call) {
@@ -103,14 +73,15 @@ func (f *FS) write(c api.Call) {
 		return
 	}
 	ino, end := f.node(c.Path), c.Off+len(c.Data)
+	var there []int
 	for off, data := c.Off, c.Data; len(data) > 0; {
 		n := off / api.Block
 		b := f.contents(ino, n)
 		count := copy(b[off%api.Block:], data)
-		f.setContents(ino, n, b)
+		there = append(there, f.setContents(ino, n, b)...)
 		off, data = off+count, data[count:]
 	}
-	f.turn(ino, func(i *api.Inode) { i.Size = max(i.Size, end) })
+	f.turn(ino, func(i *api.Inode) { i.Size = max(i.Size, end) }, there)
 }
 
 func (f *FS) trunc(c api.Call) {

@@ -2,8 +2,6 @@ package fs
 
 import (
 	"bytes"
-	"math/rand"
-	"slices"
 	"strings"
 	"testing"
 
@@ -24,30 +22,6 @@ var (
 	small = api.Geometry{Groups: 1, Inodes: 1, Data: 40}
 	wide  = api.Geometry{Groups: 2, Inodes: 4, Data: 400}
 )
-
-// play does calls, each a line of words, and tells their results' lines.
-func (w *watched) play(lines ...string) string {
-	w.t.Helper()
-	var out []string
-	for _, s := range lines {
-		c, err := calls.Read(s)
-		if err != api.OK {
-			w.t.Fatalf("no call: %q", s)
-		}
-		out = append(out, calls.Show(c.Kind, w.do(c)))
-	}
-	return strings.Join(out, "; ")
-}
-
-// must does calls that must all be taken.
-func (w *watched) must(lines ...string) {
-	w.t.Helper()
-	for _, s := range lines {
-		if got := w.play(s); strings.HasPrefix(got, "error") {
-			w.t.Fatalf("%s: %s", s, got)
-		}
-	}
-}
 
 // P2101
 
@@ -94,7 +68,7 @@ func TestMountAgain(t *testing.T) {
 		t.Fatal(err)
 	}
 	w.f = f
-	w.add()
+	w.begin()
 	inodes, blocks := w.tree.Used()
 	if i, b := f.tree.Used(); i != inodes || b != blocks {
 		t.Errorf("%d, %d used, not %d, %d", i, b, inodes, blocks)
@@ -178,92 +152,51 @@ func TestStepsLessenWhatIsLeft(t *testing.T) {
 	w.synced()
 }
 
-// TestOfOneBlock: changes that are side by side in a block, the first sector's ahead of the second's, come with one write.
-func TestOfOneBlock(t *testing.T) {
-	w := watch(t, small)
-	w.must("create /f", "write /f 0 "+strings.Repeat("01", 700), "sync")
+// TestWritesAreFew: what does not hang on each other comes together, and what is changed again and again comes once.
+func TestWritesAreFew(t *testing.T) {
+	w := watch(t, api.Geometry{Groups: 1, Inodes: 4, Data: 40})
 	for _, x := range []struct {
-		line   string
+		lines  []string
 		writes int
 	}{
-		{"write /f 0 02", 1}, {"write /f 1 03", 1}, // the same sector
-		{"write /f 600 04", 1},   // the second one behind it
-		{"write /f 2 05", 2},     // the first one again
-		{"write /f 511 0607", 5}, // both: a hole meanwhile
+		{[]string{"create /f"}, 3},                                 // the head, the inode, the name
+		{[]string{"create /g", "create /h", "create /i"}, 3},       // likewise
+		{[]string{"write /f 0 0102"}, 3},                           // the head, the block, the inode
+		{[]string{"write /f 0 03", "write /f 1 04"}, 1},            // in place
+		{[]string{"write /f 600 05", "write /f 700 06"}, 2},        // in place; its size
+		{[]string{"write /f 511 0708", "write /f 0 0908"}, 4},      // a fresh block, its mark; the inode; the old one's mark
+		{[]string{"write /g 0 01", "write /g 1024 01"}, 4},         // the head, two blocks, the inode
+		{[]string{"unlink /h", "unlink /i"}, 3},                    // the names, the inodes, the head
+		{[]string{"link /f /a", "link /g /b"}, 2},                  // the links, the names
+		{[]string{"rename /a /c"}, 4},                              // a link more, the new name, the old one, a link less
+		{[]string{"trunc /f 0", "trunc /g 0"}, 2},                  // the inodes, the marks
+		{[]string{"read /f 0 9", "trunc /f 0", "write /f 0 -"}, 0}, // nothing
 	} {
-		w.must(x.line)
-		f := *w.f // nothing of the file system is written yet
-		d := disk.Of(w.d.Image())
-		f.d, f.row.list = d, slices.Clone(f.row.list)
-		for f.Step() {
+		w.must(x.lines...)
+		log := len(w.d.Log())
+		w.must("sync")
+		if n := (len(w.d.Log()) - log) / 2; n != x.writes {
+			t.Errorf("%s: %d writes, not %d", x.lines, n, x.writes)
 		}
-		if n := len(d.Log()) / 2; n != x.writes {
-			t.Errorf("%s: %d writes, not %d", x.line, n, x.writes)
-		}
-	}
-	w.must("sync")
-	left := w.f.Left()
-	for range 9 {
-		w.must("write /f 0 0102", "write /f 0 0304")
-	}
-	if got := w.f.Left(); got != left+1 {
-		t.Errorf("left %d: a sector's bytes count once", got)
 	}
 }
 
-// P2104, P2107
-
-func TestDrawnCalls(t *testing.T) {
-	for seed := range 40 {
-		g := []api.Geometry{tight, small, {Groups: 1, Inodes: 1, Data: 16}}[seed%3]
-		draw := rand.New(rand.NewSource(int64(seed)))
-		w := watch(t, g)
-		for range 80 {
-			w.do(drawn(draw))
-			for range draw.Intn(4) {
-				w.f.Step()
-				w.moments()
+// TestLittleIsKept: of what is on the disk nothing is, though something is left at all times.
+func TestLittleIsKept(t *testing.T) {
+	w := watch(t, api.Geometry{Groups: 1, Inodes: 4, Data: 40})
+	for n := range 1000 {
+		s := "/" + string(rune('a'+n%26)) + string(rune('a'+n/26%26)) + string(rune('a'+n/676))
+		for _, kind := range []int{api.CCreate, api.CUnlink} {
+			if r := w.f.Do(api.Call{Kind: kind, Path: s}); r.Err != api.OK {
+				t.Fatal(r.Err)
 			}
 		}
-		w.do(api.Call{Kind: api.CSync})
-	}
-}
-
-// drawn is a call; most of them find their place.
-func drawn(draw *rand.Rand) api.Call {
-	kinds := []int{1, 1, 2, 2, 3, 4, 4, 5, 6, 6, 6, 7, 8, 8, 8, 8, 9, 9, 10, 11, 12, 13}
-	path := func() string {
-		s := "/" + string(rune('a'+draw.Intn(3)))
-		if draw.Intn(3) > 0 {
-			s += "/" + string(rune('a'+draw.Intn(4)))
-		}
-		return s
-	}
-	c := api.Call{Kind: kinds[draw.Intn(len(kinds))], Path: path(), To: path()}
-	switch c.Kind {
-	case api.CRead, api.CWrite:
-		c.Off, c.N = draw.Intn(4)*700, draw.Intn(3000)
-		if draw.Intn(4) == 0 {
-			c.Off += (8 + draw.Intn(3)*256) * 1024
-		}
-		c.Data = make([]byte, draw.Intn(1500))
-		draw.Read(c.Data)
-	case api.CTrunc:
-		c.N = draw.Intn(3000)
-		if draw.Intn(3) == 0 {
-			c.N += (8 + draw.Intn(3)*256) * 1024
+		for w.f.Left() > 20 {
+			w.f.Step()
 		}
 	}
-	return c
-}
-
-// TestRenamesInARing: slots are used anew ahead of a sync, and nothing is lost between.
-func TestRenamesInARing(t *testing.T) {
-	w := watch(t, small)
-	w.must("create /a", "create /b", "mkdir /c", "mkdir /d", "write /a 0 01", "write /b 0 02", "mkdir /c/e", "sync")
-	w.must("rename /a /t", "rename /b /a", "rename /t /b", "rename /c/e /e", "rename /c /e/c", "rename /d /e/c/d", "rename /e/c/d /d", "rename /e/c /d/c", "rename /e /d/c/e", "mkdir /x", "rename /d/c/e /x", "sync")
-	if got := w.play("read /a 0 1", "read /b 0 1", "list /", "list /d"); got != "data 02; data 01; names a b d x; names c" {
-		t.Error(got)
+	if n := len(w.f.freed.changes) + len(w.f.named.changes) + len(w.f.row.list) + len(w.f.row.in) + len(w.f.left); n > 200 {
+		t.Errorf("%d things are kept", n)
 	}
 }
 
@@ -310,6 +243,40 @@ func TestLongDirectories(t *testing.T) {
 }
 
 // P2105
+
+// TestRoom: what was freed is given out anew without a sync; what can't be done for want of room changes nothing.
+func TestRoom(t *testing.T) {
+	w := watch(t, tight)
+	w.must("create /f", "write /f 0 "+strings.Repeat("01", 8192), "write /f 8192 "+strings.Repeat("02", 6000))
+	left := w.f.Left()
+	if got := w.play("mkdir /d", "write /f 14336 03"); got != "error 16; error 16" || w.f.Left() != left {
+		t.Error(got)
+	}
+	if got := w.play("create /g", "write /g 0 04", "unlink /g"); got != "ok; error 16; ok" {
+		t.Error(got)
+	}
+	w.look("trunc /f 3000", "write /f 8192 "+strings.Repeat("05", 4096), "mkdir /d", "mkdir /d/e", "write /f 4000 06", "rmdir /d/e", "write /f 4000 07")
+	if got := w.play("write /f 4096 "+strings.Repeat("08", 4096), "mkdir /e", "mkdir /h", "write /f 0 "+strings.Repeat("09", 4096)); got != "wrote 4096; ok; error 16; wrote 4096" {
+		t.Error(got)
+	}
+	w.each()
+	w.must("unlink /f")
+	w.fill("create", "", 29)
+	if got := w.play("create /more", "mkdir /more", "unlink /aa", "mkdir /more"); got != "error 16; error 16; ok; ok" {
+		t.Error(got)
+	}
+	w.each()
+	w.must("sync")
+}
+
+// TestRoomInTurn: what is given out anew ahead of a sync is not given out once more behind it.
+func TestRoomInTurn(t *testing.T) {
+	w := watch(t, api.Geometry{Groups: 1, Inodes: 1, Data: 8})
+	w.must("create /f", "write /f 0 01", "create /g", "write /g 0 02", "create /h", "write /h 0 "+strings.Repeat("03", 5000), "sync")
+	w.must("trunc /f 0", "write /h 5120 04", "sync", "trunc /g 0", "sync", "write /f 0 05", "sync", "trunc /f 0", "write /g 0 06", "sync")
+	w.fill("create", "", 12)
+	w.must("unlink /aa", "create /x", "sync", "unlink /ba", "sync", "create /y", "sync")
+}
 
 // TestOfRepaired: indirect blocks that lead to nothing take room, and are taken back with their file.
 func TestOfRepaired(t *testing.T) {
@@ -360,15 +327,11 @@ func TestOfRepaired(t *testing.T) {
 // P2106
 
 func TestPower(t *testing.T) {
-	for cut := range 40 {
+	for cut := range 60 {
 		w := watch(t, small)
 		w.must("mkdir /a", "create /a/f", "write /a/f 0 "+strings.Repeat("07", 3000), "sync", "write /a/f 100 "+strings.Repeat("08", 2000), "rename /a/f /g")
 		w.d.Cut(cut)
-		c := api.Call{Kind: api.CSync}
-		if cut%2 > 0 {
-			c = api.Call{Kind: api.CFsync, Path: "/g"}
-		}
-		r := w.f.Do(c)
+		r := w.f.Do(api.Call{Kind: api.CSync})
 		w.moments()
 		if !w.d.Dead() {
 			if r.Err != api.OK || w.f.Left() > 0 {
@@ -376,15 +339,44 @@ func TestPower(t *testing.T) {
 			}
 			continue
 		}
-		if !same(r, api.Result{Err: api.ErrPower}) || w.f.Step() || w.f.Left() == 0 {
+		left := w.f.Left()
+		if !same(r, api.Result{Err: api.ErrPower}) || w.f.Step() || left == 0 {
 			t.Errorf("cut at %d: %+v", cut, r)
 		}
-		for _, c := range []api.Call{{Kind: api.CCreate, Path: "/h"}, {Kind: api.CStat, Path: "/"}, {Kind: api.CSync}, {Kind: api.CWrite, Path: "/g", Data: []byte("x")}} {
+		for _, c := range []api.Call{{Kind: api.CCreate, Path: "/h"}, {Kind: api.CStat, Path: "/"}, {Kind: api.CSync}, {Kind: api.CFsync, Path: "/g"}, {Kind: api.CWrite, Path: "/g", Data: []byte("x")}} {
 			if r := w.f.Do(c); !same(r, api.Result{Err: api.ErrPower}) {
 				t.Errorf("%+v: %+v", c, r)
 			}
 		}
+		if w.f.Left() != left || len(w.d.Log()) != w.seen {
+			t.Errorf("left %d, then %d", left, w.f.Left())
+		}
+		if _, err := Mount(w.d); err != api.ErrPower {
+			t.Errorf("mounted: %d", err)
+		}
 		w.d.Start()
-		w.do(api.Call{Kind: api.CSync})
+		w.must("write /g 2000 09", "create /a/f", "sync")
 	}
+}
+
+// TestStopsAtOnce: a step that meets the end of power tells false, and nothing is done by it; it is done later.
+func TestStopsAtOnce(t *testing.T) {
+	w := watch(t, small)
+	w.must("mkdir /a", "create /a/f", "write /a/f 0 "+strings.Repeat("07", 3000))
+	for w.f.Left() > 0 {
+		for sectors := range 2 {
+			left := w.f.Left()
+			w.d.Cut(sectors)
+			if w.f.Step() || !w.d.Dead() || w.f.Step() || w.f.Left() != left {
+				t.Fatalf("left %d, then %d", left, w.f.Left())
+			}
+			w.moments()
+			w.d.Start()
+		}
+		if !w.f.Step() {
+			t.Fatal("stuck")
+		}
+		w.moments()
+	}
+	w.synced()
 }

@@ -1,6 +1,9 @@
 package fs
 
 import (
+	"iter"
+	"slices"
+
 	"lockgate/api"
 	"lockgate/bmap"
 	"lockgate/dinode"
@@ -22,27 +25,71 @@ func (f *FS) inode(ino int) api.Inode {
 	return i
 }
 
-// turn changes an inode. It lies within a sector: all of that comes to the disk at once.
-func (f *FS) turn(ino int, how func(*api.Inode)) {
+// turn changes an inode. It lies within a sector, and is always put whole: on the disk it is as it was in memory at some moment.
+func (f *FS) turn(ino int, how func(*api.Inode), on []int) []int {
 	i := f.inode(ino)
 	how(&i)
 	block, at, _ := geom.InodeAt(f.g, ino)
 	b, _ := dinode.Pack(i)
-	f.put(block, at, b)
+	return f.put(block, at, b, on)
 }
 
 // links counts an inode's links on.
-func (f *FS) links(ino, by int) {
-	f.turn(ino, func(i *api.Inode) { i.Links += by })
+func (f *FS) links(ino, by int, on []int) []int {
+	return f.turn(ino, func(i *api.Inode) { i.Links += by }, on)
 }
 
-// freeInode takes an inode back that no name leads to any more, with all that it has.
-func (f *FS) freeInode(ino int) {
-	f.cut(ino, 0)
-	f.turn(ino, func(i *api.Inode) { *i = api.Inode{} })
-	f.room.Give(ino, 0)
-	f.putHeads()
+// freeInode takes an inode back, with all that it has, to which nothing leads any more behind these changes.
+func (f *FS) freeInode(ino int, on []int) {
+	blocks := slices.Collect(f.blocks(ino))
+	free := f.turn(ino, func(i *api.Inode) { *i = api.Inode{} }, on)
+	f.giveBlocks(blocks, free)
+	f.giveInode(ino, free)
 	delete(f.used, ino)
+}
+
+// blocks goes over the data blocks that an inode has, the indirect ones too.
+func (f *FS) blocks(ino int) iter.Seq[int] {
+	return func(yield func(int) bool) {
+		i := f.inode(ino)
+		for _, to := range i.Direct {
+			if !f.down(direct, to, yield) {
+				return
+			}
+		}
+		if f.down(single, i.Single, yield) {
+			f.down(double, i.Double, yield)
+		}
+	}
+}
+
+// down tells the block to which a pointer of a level leads, and those to which that leads; false: no more of them are asked for.
+func (f *FS) down(level, to int, yield func(int) bool) bool {
+	if to == 0 {
+		return true
+	}
+	if !yield(to) {
+		return false
+	}
+	if level == direct {
+		return true
+	}
+	for _, below := range dinode.Pointers(f.block(to)) {
+		if !f.down(level-1, below, yield) {
+			return false
+		}
+	}
+	return true
+}
+
+// of are the changes that are left in an inode and in its blocks.
+func (f *FS) of(ino int) []int {
+	block, at, _ := geom.InodeAt(f.g, ino)
+	out := f.behind(block, bytesFrom(at, api.InodeSize))
+	for block := range f.blocks(ino) {
+		out = append(out, numbers(f.left[block])...)
+	}
+	return out
 }
 
 // at is the block to which a file's, or a directory's, pointer of its block n leads; 0: none.
@@ -66,78 +113,30 @@ func (f *FS) pointer(table, at int) int {
 }
 
 // point lets the pointer of an inode's block n lead to a block, through fresh indirect blocks, where there are none.
-func (f *FS) point(ino, n, to int) {
+func (f *FS) point(ino, n, to int, on []int) []int {
 	level, upper, lower, _ := bmap.Place(n)
 	i := f.inode(ino)
 	switch level {
 	case direct:
 		i.Direct[upper] = to
 	case single:
-		i.Single = f.pointIn(ino, i.Single, upper, to)
+		i.Single, on = f.pointIn(ino, i.Single, upper, to, on)
 	case double:
-		table := f.pointIn(ino, f.pointer(i.Double, upper), lower, to)
-		i.Double = f.pointIn(ino, i.Double, upper, table)
+		var table int
+		table, on = f.pointIn(ino, f.pointer(i.Double, upper), lower, to, on)
+		i.Double, on = f.pointIn(ino, i.Double, upper, table, on)
 	}
-	f.turn(ino, func(now *api.Inode) { *now = i })
+	return f.turn(ino, func(now *api.Inode) { *now = i }, on)
 }
 
 // pointIn lets a pointer in an indirect block lead to a block, and tells the indirect block: a fresh one, if there was none (0).
-func (f *FS) pointIn(ino, table, at, to int) int {
+func (f *FS) pointIn(ino, table, at, to int, on []int) (int, []int) {
 	if table == 0 {
 		row := make([]int, api.PerBlock)
 		row[at] = to
 		b, _ := dinode.PackPointers(row)
-		return f.freshBlock(ino, b)
+		return f.freshBlock(ino, b, on)
 	}
 	b, _ := dinode.PackPointers([]int{to})
-	f.put(table, at*pointerSize, b[:pointerSize])
-	return table
-}
-
-// cut gives an inode a size, and takes the blocks behind it back, also the indirect ones that lead to nothing then.
-func (f *FS) cut(ino, size int) {
-	i := f.inode(ino)
-	c := cutter{FS: f, count: bmap.Count(size)}
-	for n := range i.Direct {
-		i.Direct[n] = c.left(direct, i.Direct[n], n)
-	}
-	first, _ := bmap.First(single, 0)
-	i.Single = c.left(single, i.Single, first)
-	first, _ = bmap.First(double, 0)
-	i.Double = c.left(double, i.Double, first)
-	i.Size = size
-	f.turn(ino, func(now *api.Inode) { *now = i })
-	f.giveBlocks(c.gone)
-}
-
-// cutter takes blocks away from an inode.
-type cutter struct {
-	*FS
-	count int   // how many of its first blocks may stay
-	gone  []int // to these nothing of it will lead
-}
-
-// left is what is left of a pointer of a level, behind which the first block is the inode's block first: itself, or 0.
-func (c *cutter) left(level, to, first int) int {
-	if to == 0 || level == direct && first < c.count {
-		return to
-	}
-	if level != direct {
-		step := 1
-		if level == double {
-			step = api.PerBlock
-		}
-		row, some := dinode.Pointers(c.block(to)), 0
-		for k := range row {
-			row[k] = c.left(level-1, row[k], first+k*step)
-			some |= row[k]
-		}
-		if some != 0 {
-			b, _ := dinode.PackPointers(row)
-			c.put(to, 0, b)
-			return to
-		}
-	}
-	c.gone = append(c.gone, to)
-	return 0
+	return table, f.put(table, at*pointerSize, b[:pointerSize], on)
 }

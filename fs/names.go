@@ -1,6 +1,8 @@
 package fs
 
 import (
+	"slices"
+
 	"lockgate/api"
 	"lockgate/entry"
 	"lockgate/path"
@@ -40,46 +42,90 @@ func (f *FS) entryAt(dir, at int) api.Entry {
 }
 
 // putEntry puts a directory's entry of that number. It lies within a sector: it comes to the disk at once.
-func (f *FS) putEntry(dir, at int, e api.Entry) {
+func (f *FS) putEntry(dir, at int, e api.Entry, on []int) []int {
 	b, _ := entry.Pack(e)
-	f.put(f.at(f.inode(dir), at/api.PerDir), at%api.PerDir*api.EntrySize, b)
+	return f.put(f.at(f.inode(dir), at/api.PerDir), at%api.PerDir*api.EntrySize, b, on)
 }
 
-// firstFree is a directory's first free entry; behind them all, if none is.
-func (f *FS) firstFree(dir int) int {
-	at, end := f.used[dir], f.inode(dir).Size/api.EntrySize
-	for at < end && f.entryAt(dir, at).Ino != 0 {
+// slot is the number of a name's entry: that which it has, or a free one.
+func (f *FS) slot(of name) int {
+	if s, ok := f.names[of]; ok {
+		return s.at
+	}
+	at, end := f.used[of.dir], f.inode(of.dir).Size/api.EntrySize
+	for at < end && f.entryAt(of.dir, at).Ino != 0 {
 		at++
 	}
-	f.used[dir] = at
+	f.used[of.dir] = at
+	if at == end {
+		f.grow(of.dir)
+	}
 	return at
 }
 
-// enter gives an inode a name that its directory has not yet. The inode must be one already, and its links count that name.
-func (f *FS) enter(to name, ino int) {
-	at, size := f.firstFree(to.dir), f.inode(to.dir).Size
-	e := api.Entry{Ino: ino, Name: to.text}
-	if at*api.EntrySize < size {
-		f.putEntry(to.dir, at, e)
-	} else {
-		b, _ := entry.PackBlock([]api.Entry{e})
-		f.point(to.dir, size/api.Block, f.freshBlock(to.dir, b))
-		f.turn(to.dir, func(i *api.Inode) { i.Size += api.Block })
-	}
-	f.names[to] = spot{at, ino}
+// grow gives a directory a block of free entries more.
+func (f *FS) grow(dir int) {
+	n := f.inode(dir).Size / api.Block
+	block, there := f.freshBlock(dir, make([]byte, api.Block), nil)
+	leads := f.point(dir, n, block, there)
+	f.grown.set(f.graph, dir, f.turn(dir, func(i *api.Inode) { i.Size += api.Block }, leads))
 }
 
-// replace lets a name that is there name another inode.
-func (f *FS) replace(to name, ino int) {
-	at := f.names[to].at
-	f.putEntry(to.dir, at, api.Entry{Ino: ino, Name: to.text})
+// give lets a name, there or not, name an inode, which must be one, and count that link.
+func (f *FS) give(to name, ino int, on []int) []int {
+	return f.giveAt(to, f.slot(to), ino, on)
+}
+
+// giveAt does so with the entry of that number. Behind it the inode can be reached by the name: so the way to that entry is on the disk ahead of it.
+//
+// The names of an inode come and go on the disk as they came and went in memory: what had a name at all times has one there at all times. So do the entries of a name: no two of them stand there together.
+func (f *FS) giveAt(to name, at, ino int, on []int) []int {
+	gone := f.names[to].ino
+	on = slices.Concat(on, f.way(to.dir), f.grown.of(to.dir), f.freed.of(to), f.named.of(ino), f.named.of(gone))
+	given := f.putEntry(to.dir, at, api.Entry{Ino: ino, Name: to.text}, on)
 	f.names[to] = spot{at, ino}
+	f.named.set(f.graph, ino, given)
+	if gone != 0 {
+		f.named.set(f.graph, gone, given)
+	}
+	return given
 }
 
 // remove frees the entry of a name that is there.
-func (f *FS) remove(from name) {
-	at := f.names[from].at
-	f.putEntry(from.dir, at, api.Entry{})
+func (f *FS) remove(from name, on []int) []int {
+	s := f.names[from]
+	taken := f.putEntry(from.dir, s.at, api.Entry{}, slices.Concat(on, f.named.of(s.ino)))
 	delete(f.names, from)
-	f.used[from.dir] = min(f.used[from.dir], at)
+	f.used[from.dir] = min(f.used[from.dir], s.at)
+	f.named.set(f.graph, s.ino, taken)
+	f.freed.set(f.graph, from, taken)
+	return taken
+}
+
+// way are the changes behind which a directory is reached on the disk as it is in memory: its own name, and those of all above it.
+func (f *FS) way(dir int) []int {
+	var on []int
+	for dir != api.Root {
+		on = append(on, f.named.of(dir)...)
+		dir = f.entryAt(dir, 1).Ino
+	}
+	return on
+}
+
+// whole are the changes behind which the node of a path that the tree has found lies on the disk as it is in memory, with all its names, and can be reached by that path, and by no other one that a repair might meet first. A directory's slots name what they name then, too.
+func (f *FS) whole(s string) []int {
+	parts, _ := path.Split(s)
+	ino := api.Root
+	var on []int
+	for _, part := range parts {
+		ino = f.names[name{ino, part}].ino
+		on = append(on, f.named.of(ino)...)
+	}
+	on = append(on, f.of(ino)...)
+	if f.inode(ino).Kind == api.Dir {
+		for at := dots; at < f.inode(ino).Size/api.EntrySize; at++ {
+			on = append(on, f.named.of(f.entryAt(ino, at).Ino)...)
+		}
+	}
+	return on
 }

@@ -1,20 +1,29 @@
 package fs
 
-// row is a list in which what came first goes first. The zero row is empty.
-type row[T any] struct{ list []T }
-
-func (r *row[T]) push(one T) { r.list = append(r.list, one) }
-
-// last is where the one that came last stands; nil: the row is empty.
-func (r *row[T]) last() *T {
-	if len(r.list) == 0 {
-		return nil
-	}
-	return &r.list[len(r.list)-1]
+// row is a list in which what came first goes first, and each thing stands once. The zero row is empty.
+type row[T comparable] struct {
+	list []T
+	in   map[T]struct{}
 }
 
-// drop takes the first n off, without moving those behind them.
-func (r *row[T]) drop(n int) {
-	clear(r.list[:n]) // the room stays for a while; what stood there need not
-	r.list = r.list[n:]
+func (r *row[T]) size() int { return len(r.list) }
+
+// push puts a thing last, unless it stands in the row.
+func (r *row[T]) push(one T) {
+	if _, ok := r.in[one]; ok {
+		return
+	}
+	if r.in == nil {
+		r.in = map[T]struct{}{}
+	}
+	r.in[one] = struct{}{}
+	r.list = append(r.list, one)
+}
+
+// pop takes the first thing off. There must be one.
+func (r *row[T]) pop() T {
+	first := r.list[0]
+	r.list = r.list[1:]
+	delete(r.in, first)
+	return first
 }
