@@ -20,8 +20,8 @@ func (f *FS) cut(ino, size int) {
 	first, _ = bmap.First(double, 0)
 	i.Double = c.kept(double, i.Double, first)
 	i.Size = size
-	cut := f.turn(ino, func(now *api.Inode) { *now = i }, nil)
-	f.giveBlocks(c.gone, append(cut, c.cut...))
+	done := f.turn(ino, func(now *api.Inode) { *now = i }, nil)
+	f.giveBlocks(c.gone, append(done, c.done...))
 }
 
 // cutter takes blocks away from an inode.
@@ -29,7 +29,7 @@ type cutter struct {
 	*FS
 	count int   // how many of its first blocks may stay
 	gone  []int // to these nothing of it will lead
-	cut   []int // what was done to its indirect blocks that stay
+	done  []int // the changes of its indirect blocks that stay
 }
 
 // kept is what is kept of a pointer of a level, behind which the first block is the inode's block first: itself, or 0.
@@ -64,7 +64,7 @@ func (c *cutter) leads(level, table, first int) bool {
 	}
 	if k := unlikeFrom(was, row); k < len(row) {
 		b, _ := dinode.PackPointers(row[k:])
-		c.cut = append(c.cut, c.put(table, k*pointerSize, b[:(len(row)-k)*pointerSize], nil)...)
+		c.done = append(c.done, c.put(table, k*pointerSize, b[:(len(row)-k)*pointerSize], nil)...)
 	}
 	return true
 }

@@ -9,7 +9,7 @@ import (
 	"lockgate/walk"
 )
 
-const seeds = 40
+const seeds = 100
 
 // P2104, P2107
 
@@ -22,7 +22,7 @@ func TestDrawnCalls(t *testing.T) {
 			w, l = watch(t, api.Geometry{Groups: 1, Inodes: 4, Data: 60}), lots{draw, 50, 3, 1 + draw.Intn(2)}
 		}
 		w.draw(l, 80)
-		w = w.crashed()
+		w = w.repaired(draw, seed/2%2*draw.Intn(20))
 		w.draw(l, 20)
 		for w.f.Left() > 0 {
 			w.step(draw)

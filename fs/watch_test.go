@@ -41,6 +41,13 @@ type watched struct {
 	fixed bool // it was repaired: there may be more room taken than is used
 }
 
+// spoil puts a number of a block, of an inode or of anything somewhere into bytes.
+func spoil(draw *rand.Rand, b []byte, g api.Geometry) {
+	at := draw.Intn(len(b)/4) * 4
+	n := []int{draw.Intn(geom.Total(g)), draw.Intn(geom.Inodes(g) + 2), draw.Intn(70000) * 1024, draw.Intn(1 << 30), 0, 0x10002}[draw.Intn(6)]
+	copy(b[at:], []byte{byte(n), byte(n >> 8), byte(n >> 16), byte(n >> 24)})
+}
+
 // since is what was so behind each call since the last sync.
 type since struct {
 	kinds map[int]int              // of the inodes that were there all the time
@@ -75,10 +82,19 @@ func watch(t *testing.T, g api.Geometry) *watched {
 	return w
 }
 
-// crashed is the file system that a repair makes of the disk as it is.
-func (w *watched) crashed() *watched {
+// repaired is the file system that a repair makes of the disk, if some places on it are spoilt.
+func (w *watched) repaired(draw *rand.Rand, places int) *watched {
 	w.t.Helper()
-	image, _, _ := fsck.Repair(w.d.Image())
+	image := w.d.Image()
+	for range places {
+		if n, ok := geom.DataOf(w.g, draw.Intn(geom.Total(w.g))); ok {
+			block, _ := geom.Data(w.g, n)
+			spoil(draw, image[block*1024:(block+1)*1024], w.g)
+		}
+		block, at, _ := geom.InodeAt(w.g, 1+draw.Intn(geom.Inodes(w.g)))
+		spoil(draw, image[block*1024+at:][:64], w.g)
+	}
+	image, _, _ = fsck.Repair(image)
 	d := disk.Of(image)
 	f, err := Mount(d)
 	if err != api.OK {
