@@ -96,6 +96,40 @@ func TestNextWaitsForAll(t *testing.T) {
 	mustTell(t, "Blocked(3)", g.Blocked(3))
 }
 
+func mustBe(t *testing.T, g *Graph, id, buf int, on ...int) {
+	t.Helper()
+	if b, l, ok := g.Change(id); b != buf || !slices.Equal(l, on) || !ok {
+		t.Errorf("Change(%d) is %d, %v, %v, want %d, %v", id, b, l, ok, buf, on)
+	}
+}
+
+func mustNotBe(t *testing.T, g *Graph, ids ...int) {
+	t.Helper()
+	for _, id := range ids {
+		if b, l, ok := g.Change(id); b != 0 || l != nil || ok {
+			t.Errorf("Change(%d) is %d, %v, %v, want none", id, b, l, ok)
+		}
+	}
+}
+
+// Change beside the chapter's calls: the buffer, and of those that it hangs on the ones that are not done, in new memory.
+func TestChange(t *testing.T) {
+	g := New()
+	mustNotBe(t, g, 0, -1)
+	mustAdd(t, g, 0, 7)
+	mustAdd(t, g, 1, -8, 0)
+	mustAdd(t, g, 2, 9, 1, 0, 1)
+	mustBe(t, g, 0, 7)
+	mustBe(t, g, 1, -8, 0)
+	mustBe(t, g, 2, 9, 0, 1)
+	_, on, _ := g.Change(2)
+	on[0] = 5
+	mustBe(t, g, 2, 9, 0, 1)
+	g.Written(7)
+	mustBe(t, g, 2, 9, 1)
+	mustNotBe(t, g, 0, 3, -1, math.MinInt, math.MaxInt)
+}
+
 func mustJoin(t *testing.T, g *Graph, want bool, id int, on ...int) {
 	t.Helper()
 	if g.Join(id, on) != want {
